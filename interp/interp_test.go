@@ -9,6 +9,7 @@ import (
 	"jacquard/api"
 	"jacquard/check"
 	"jacquard/interp"
+	"jacquard/sample"
 )
 
 // Short forms for what is written out.
@@ -88,13 +89,13 @@ type how struct {
 // TestSecond: functions of all kinds do what the document's words say (P4.2).
 func TestSecond(t *testing.T) {
 	seen, calls, stores, steps := map[how]int{}, 0, 0, 0
-	for _, x := range samples(3, 30000) {
-		if !check.Right(x.f) {
-			t.Fatalf("%v may not be", x.f)
+	for _, x := range sample.Runs(3, 30000) {
+		if !check.Right(x.F) {
+			t.Fatalf("%v may not be", x.F)
 		}
-		want, stored := reckoned(x.f, x.in)
-		if got := interp.Run(x.f, x.in); !alike(got, want) {
-			t.Fatalf("%v, %v: %v, not %v", x.f, x.in, got, want)
+		want, stored := reckoned(x.F, x.In)
+		if got := interp.Run(x.F, x.In); !alike(got, want) {
+			t.Fatalf("%v, %v: %v, not %v", x.F, x.In, got, want)
 		}
 		key := how{end: want.End}
 		if want.End == api.EndTrap && (want.Val == api.TrapDiv || want.Val == api.TrapMem) {
@@ -572,11 +573,11 @@ func spoil(o api.Outcome) {
 
 // TestKept: what is handed in stays as it was, and is not kept; what is told is the caller's, and the same each time (P4.4, R1, R3, R4).
 func TestKept(t *testing.T) {
-	for _, x := range samples(7, 3000) {
-		f, in := copied(x.f), api.Input{Args: slices.Clone(x.in.Args), Mem: slices.Clone(x.in.Mem), Answers: slices.Clone(x.in.Answers), Steps: x.in.Steps}
+	for _, x := range sample.Runs(7, 3000) {
+		f, in := copied(x.F), api.Input{Args: slices.Clone(x.In.Args), Mem: slices.Clone(x.In.Mem), Answers: slices.Clone(x.In.Answers), Steps: x.In.Steps}
 		first, second := interp.Run(f, in), interp.Run(f, in)
-		if !reflect.DeepEqual(f, x.f) || !reflect.DeepEqual(in, x.in) {
-			t.Fatalf("%v, %v: changed to %v, %v", x.f, x.in, f, in)
+		if !reflect.DeepEqual(f, x.F) || !reflect.DeepEqual(in, x.In) {
+			t.Fatalf("%v, %v: changed to %v, %v", x.F, x.In, f, in)
 		}
 		if !reflect.DeepEqual(first, second) {
 			t.Fatalf("%v, %v: %v, and then %v", f, in, first, second)
@@ -593,15 +594,15 @@ func TestKept(t *testing.T) {
 			t.Fatalf("%v, %v: events share rows", f, in)
 		}
 		spoil(second)
-		if !alike(first, want) || !reflect.DeepEqual(in, x.in) || !reflect.DeepEqual(f, x.f) {
+		if !alike(first, want) || !reflect.DeepEqual(in, x.In) || !reflect.DeepEqual(f, x.F) {
 			t.Fatalf("%v, %v: an answer shares something", f, in)
 		}
 		clear(in.Args)
 		clear(in.Mem)
 		clear(in.Answers)
 		clear(f.Blocks)
-		if !alike(first, want) || !alike(interp.Run(x.f, x.in), want) {
-			t.Fatalf("%v, %v: something was kept", x.f, x.in)
+		if !alike(first, want) || !alike(interp.Run(x.F, x.In), want) {
+			t.Fatalf("%v, %v: something was kept", x.F, x.In)
 		}
 	}
 }
@@ -609,12 +610,12 @@ func TestKept(t *testing.T) {
 // TestMore: with more steps a run goes on as it did with fewer (P4.5).
 func TestMore(t *testing.T) {
 	same := func(x, y api.Event) bool { return x.Callee == y.Callee && slices.Equal(x.Args, y.Args) }
-	for _, x := range samples(19, 2000) {
-		x.in.Steps = -1
-		before := interp.Run(x.f, x.in)
+	for _, x := range sample.Runs(19, 2000) {
+		x.In.Steps = -1
+		before := interp.Run(x.F, x.In)
 		for steps := range 60 {
-			x.in.Steps = steps
-			got := interp.Run(x.f, x.in)
+			x.In.Steps = steps
+			got := interp.Run(x.F, x.In)
 			if steps == 0 && !alike(got, before) {
 				t.Fatalf("%v: %v, not %v", x, got, before)
 			}
@@ -649,19 +650,19 @@ func differ(a, b []int32) int {
 // TestStays: memory that is not stored to stays (P4.5).
 func TestStays(t *testing.T) {
 	stores, stays := 0, 0
-	for _, x := range samples(29, 5000) {
-		got := interp.Run(x.f, x.in)
-		_, stored := reckoned(x.f, x.in)
+	for _, x := range sample.Runs(29, 5000) {
+		got := interp.Run(x.F, x.In)
+		_, stored := reckoned(x.F, x.In)
 		stores += len(stored)
-		if len(got.Mem) != len(x.in.Mem) {
-			t.Fatalf("%v: %d words, not %d", x, len(got.Mem), len(x.in.Mem))
+		if len(got.Mem) != len(x.In.Mem) {
+			t.Fatalf("%v: %d words, not %d", x, len(got.Mem), len(x.In.Mem))
 		}
 		for at, v := range got.Mem {
 			if stored[at] {
 				continue
 			}
 			stays++
-			if v != x.in.Mem[at] {
+			if v != x.In.Mem[at] {
 				t.Fatalf("%v: the word at %d is %d", x, at, v)
 			}
 		}

@@ -7,6 +7,7 @@ import (
 
 	"jacquard/api"
 	"jacquard/mach"
+	"jacquard/sample"
 )
 
 // far are numbers that may stand where a register, or an operation, should.
@@ -163,7 +164,7 @@ func doing(t *testing.T, i api.Mach, s, want state, val int32, ok bool) {
 
 // TestDo: an instruction of any operation, with any registers, those that there are and those that there are not (P7.4).
 func TestDo(t *testing.T) {
-	next, traps, done := numbers(31), map[int32]int{}, make([]int, 32)
+	next, traps, done := sample.Numbers(31), map[int32]int{}, make([]int, 32)
 	for range 200000 {
 		s := state{rowOf(next, 12), rowOf(next, 20)}
 		i := api.Mach{Op: 1 + next(31), Imm: words(next), Args: []int{next(5)}}
@@ -245,7 +246,7 @@ func TestWhere(t *testing.T) {
 
 // TestHangs: an instruction changes no register but those that it makes, and hangs on none but those that it takes (P7.7).
 func TestHangs(t *testing.T) {
-	next := numbers(91)
+	next := sample.Numbers(91)
 	for range 60000 {
 		i := api.Mach{Op: 1 + next(31), D: next(8), E: next(8), A: next(8), B: next(8), C: next(8), Imm: int32(next(9) - 2), Args: []int{next(8)}}
 		s := state{mem: rowOf(next, 9)}

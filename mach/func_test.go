@@ -7,6 +7,7 @@ import (
 
 	"jacquard/api"
 	"jacquard/mach"
+	"jacquard/sample"
 )
 
 // Short forms for what is written out.
@@ -66,11 +67,11 @@ func hold(t *testing.T, name string, m api.MFunc, want fault) {
 
 // TestSpoilt: of code of all kinds, as it may be and changed in any way, the first fault is told (P7.2).
 func TestSpoilt(t *testing.T) {
-	next, seen := numbers(77), map[api.Errno]int{}
+	next, seen := sample.Numbers(77), map[api.Errno]int{}
 	for _, x := range samples(5, 6000) {
 		hold(t, "as it may be", x.m, fault{})
 		for range 6 {
-			m := copied(x.m)
+			m := sample.CopiedCode(x.m)
 			for range 1 + next(2) {
 				spoilt(&m, next)
 			}

@@ -9,6 +9,7 @@ import (
 	"jacquard/api"
 	"jacquard/interp"
 	"jacquard/mach"
+	"jacquard/sample"
 	"jacquard/tile"
 )
 
@@ -228,15 +229,15 @@ func spoil(o api.Outcome) {
 // TestKept: what is handed in stays as it was, and is not kept; what is told is the caller's, and the same each time (P7.6, R1, R3, R4).
 func TestKept(t *testing.T) {
 	for _, x := range samples(7, 3000) {
-		m, in := copied(x.m), api.Input{Args: slices.Clone(x.in.Args), Mem: slices.Clone(x.in.Mem), Answers: slices.Clone(x.in.Answers), Steps: x.in.Steps}
+		m, in := sample.CopiedCode(x.m), api.Input{Args: slices.Clone(x.in.Args), Mem: slices.Clone(x.in.Mem), Answers: slices.Clone(x.in.Answers), Steps: x.in.Steps}
 		first, second := mach.Run(m, in), mach.Run(m, in)
 		want := reckoned(x.m, x.in)
 		e, at, place := mach.Func(m)
-		if !reflect.DeepEqual(m, copied(x.m)) || !reflect.DeepEqual(in, x.in) || e != api.OK || at != 0 || place != 0 {
+		if !reflect.DeepEqual(m, sample.CopiedCode(x.m)) || !reflect.DeepEqual(in, x.in) || e != api.OK || at != 0 || place != 0 {
 			t.Fatalf("%v, %v: changed to %v, %v", x.m, x.in, m, in)
 		}
 		spoil(second)
-		if !alike(first, want) || !reflect.DeepEqual(in, x.in) || !reflect.DeepEqual(m, copied(x.m)) {
+		if !alike(first, want) || !reflect.DeepEqual(in, x.in) || !reflect.DeepEqual(m, sample.CopiedCode(x.m)) {
 			t.Fatalf("%v, %v: an answer shares something", m, in)
 		}
 		clear(in.Args)
@@ -321,7 +322,7 @@ func sorted() api.Func {
 func TestLikeFunctions(t *testing.T) {
 	f := sorted()
 	f.Blocks[4].Ins[0].Two, f.Blocks[4].Ins[0].Args = 14, []int{2, 2}
-	m, next, seen := laid(t, f), numbers(7), map[int]int{}
+	m, next, seen := laid(t, f), sample.Numbers(7), map[int]int{}
 	if got := told(m); got != (fault{}) {
 		t.Fatalf("%v: %v", m, got)
 	}

@@ -5,15 +5,8 @@ import (
 	"slices"
 
 	"jacquard/api"
+	"jacquard/sample"
 )
-
-// numbers tell numbers that are all over the place, the same each time.
-func numbers(seed uint32) func(below int) int {
-	return func(below int) int {
-		seed = seed*1664525 + 1013904223
-		return int(seed>>8) % below
-	}
-}
 
 // one is an item of a row.
 func one[T any](next func(int) int, l ...T) T { return l[next(len(l))] }
@@ -144,39 +137,20 @@ func (g *grower) instruction() api.Mach {
 	return i
 }
 
-// sample is machine code that may be, and an input.
-type sample struct {
+// run is machine code that may be, and an input.
+type run struct {
 	m  api.MFunc
 	in api.Input
 }
 
 // samples are many.
-func samples(seed uint32, count int) []sample {
-	next := numbers(seed)
-	var l []sample
+func samples(seed uint32, count int) []run {
+	next := sample.Numbers(seed)
+	var l []run
 	for range count {
 		m := grown(next)
 		in := api.Input{Args: rowOf(next, 7), Mem: rowOf(next, 16), Answers: rowOf(next, 6), Steps: next(90) - 3}
-		l = append(l, sample{m, in})
+		l = append(l, run{m, in})
 	}
 	return l
-}
-
-// rowed is a row of its own; nil, if it has no items.
-func rowed[T any](row []T) []T { return append([]T(nil), row...) }
-
-// copied is machine code of rows of its own.
-func copied(m api.MFunc) api.MFunc {
-	m.Blocks = rowed(m.Blocks)
-	for b := range m.Blocks {
-		x := &m.Blocks[b]
-		x.Phis, x.Ins, x.End.To = rowed(x.Phis), rowed(x.Ins), rowed(x.End.To)
-		for n := range x.Phis {
-			x.Phis[n].In = rowed(x.Phis[n].In)
-		}
-		for n := range x.Ins {
-			x.Ins[n].Args = rowed(x.Ins[n].Args)
-		}
-	}
-	return m
 }

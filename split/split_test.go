@@ -9,6 +9,7 @@ import (
 	"jacquard/check"
 	"jacquard/graph"
 	"jacquard/interp"
+	"jacquard/sample"
 	"jacquard/split"
 )
 
@@ -41,31 +42,9 @@ func with(b api.Block, l ...api.Phi) api.Block {
 	return b
 }
 
-// own is a row of its own; nil, if it has no items.
-func own[T any](row []T) []T {
-	return append([]T(nil), row...)
-}
-
-// copied is a function of rows of its own; those without items are nil.
-func copied(f api.Func) api.Func {
-	f.Blocks = own(f.Blocks)
-	for b := range f.Blocks {
-		x := &f.Blocks[b]
-		x.Phis, x.Ins = own(x.Phis), own(x.Ins)
-		for n := range x.Phis {
-			x.Phis[n].In = own(x.Phis[n].In)
-		}
-		for n := range x.Ins {
-			x.Ins[n].Args = own(x.Ins[n].Args)
-		}
-		x.Term.Args, x.Term.To = own(x.Term.Args), own(x.Term.To)
-	}
-	return f
-}
-
 // alike tells whether two functions are the same in all, be rows without items nil or empty.
 func alike(a, b api.Func) bool {
-	return reflect.DeepEqual(copied(a), copied(b))
+	return reflect.DeepEqual(sample.Copied(a), sample.Copied(b))
 }
 
 // goers are the blocks whose term names one, rising.
@@ -99,7 +78,7 @@ func critical(f api.Func) [][2]int {
 // second splits a function that may be by the document's words, one edge after the other.
 func second(f api.Func) api.Func {
 	edges := critical(f)
-	f = copied(f)
+	f = sample.Copied(f)
 	for _, e := range edges {
 		from, to, its := e[0], e[1], len(f.Blocks)
 		f.Blocks = append(f.Blocks, block(jump(to)))
@@ -136,19 +115,19 @@ func hold(t *testing.T, name string, f, want api.Func) {
 // TestSecond: functions of all kinds are split as the document's words say (P5.2).
 func TestSecond(t *testing.T) {
 	edges, moved, plain := 0, 0, 0
-	for _, x := range samples(5, 20000) {
-		want := second(x.f)
-		got, e := split.Func(x.f)
+	for _, x := range sample.Runs(5, 20000) {
+		want := second(x.F)
+		got, e := split.Func(x.F)
 		if e != api.OK || !alike(got, want) {
-			t.Fatalf("%v: %v %v, not %v", x.f, got, e, want)
+			t.Fatalf("%v: %v %v, not %v", x.F, got, e, want)
 		}
-		more := len(want.Blocks) - len(x.f.Blocks)
+		more := len(want.Blocks) - len(x.F.Blocks)
 		edges += more
 		if more == 0 {
 			plain++
 		}
-		for b := range x.f.Blocks {
-			for n, p := range x.f.Blocks[b].Phis {
+		for b := range x.F.Blocks {
+			for n, p := range x.F.Blocks[b].Phis {
 				if !reflect.DeepEqual(p, want.Blocks[b].Phis[n]) {
 					moved++
 				}
@@ -198,7 +177,7 @@ func TestSplit(t *testing.T) {
 func TestFields(t *testing.T) {
 	f := function(1, block(branch(0, 1, 2), api.Ins{Op: api.Add, Dst: 1, Two: 77, Args: []int{0, 0}, Imm: 5}), block(jump(2)), block(ret(1)))
 	f.Blocks[0].Term.Imm, f.Blocks[1].Term.Imm, f.Blocks[2].Term.Imm = 3, 4, 5
-	want := copied(f)
+	want := sample.Copied(f)
 	want.Blocks[0].Term.To[1] = 3
 	want.Blocks = append(want.Blocks, block(jump(2)))
 	hold(t, "fields", f, want)
@@ -242,9 +221,9 @@ func TestWrong(t *testing.T) {
 
 // TestSpoilt: functions of all kinds with something wrong have the checker's error (P5.1).
 func TestSpoilt(t *testing.T) {
-	next, wrong := numbers(11), 0
-	for _, x := range samples(13, 4000) {
-		f := copied(x.f)
+	next, wrong := sample.Numbers(11), 0
+	for _, x := range sample.Runs(13, 4000) {
+		f := sample.Copied(x.F)
 		b := &f.Blocks[next(len(f.Blocks))]
 		switch next(4) {
 		case 0:
@@ -322,26 +301,26 @@ func TestMany(t *testing.T) {
 
 // TestFollows: what is split may be, has no critical edges, and is not split again (P5.3).
 func TestFollows(t *testing.T) {
-	for _, x := range samples(23, 10000) {
-		got, _ := split.Func(x.f)
+	for _, x := range sample.Runs(23, 10000) {
+		got, _ := split.Func(x.F)
 		if !check.Right(got) || len(critical(got)) > 0 {
-			t.Fatalf("%v: %v", x.f, got)
+			t.Fatalf("%v: %v", x.F, got)
 		}
 		if again, e := split.Func(got); e != api.OK || !reflect.DeepEqual(again, got) {
-			t.Fatalf("%v: %v, and then %v %v", x.f, got, again, e)
+			t.Fatalf("%v: %v, and then %v %v", x.F, got, again, e)
 		}
 	}
 }
 
 // TestDominators: who dominates whom among the blocks of the function is as it was (P5.3).
 func TestDominators(t *testing.T) {
-	for _, x := range samples(31, 5000) {
-		got, _ := split.Func(x.f)
-		was, is := graph.Idom(graph.Of(x.f)), graph.Idom(graph.Of(got))
-		for a := range x.f.Blocks {
-			for b := range x.f.Blocks {
+	for _, x := range sample.Runs(31, 5000) {
+		got, _ := split.Func(x.F)
+		was, is := graph.Idom(graph.Of(x.F)), graph.Idom(graph.Of(got))
+		for a := range x.F.Blocks {
+			for b := range x.F.Blocks {
 				if graph.Dominates(was, a, b) != graph.Dominates(is, a, b) {
-					t.Fatalf("%v: %v: %d and %d", x.f, got, a, b)
+					t.Fatalf("%v: %v: %d and %d", x.F, got, a, b)
 				}
 			}
 		}
@@ -350,7 +329,7 @@ func TestDominators(t *testing.T) {
 
 // marked is a function that calls at the beginning of each block: who is called tells the block.
 func marked(f api.Func) api.Func {
-	f = copied(f)
+	f = sample.Copied(f)
 	top := check.Top(f)
 	for b := range f.Blocks {
 		own := &f.Blocks[b]
@@ -378,16 +357,16 @@ func gone(f api.Func, out api.Outcome) int {
 // TestRuns: what is split does what the function did, by a step more for each split edge that is gone over (P5.3).
 func TestRuns(t *testing.T) {
 	ends, all := 0, 0
-	for _, x := range samples(41, 10000) {
-		f := marked(x.f)
+	for _, x := range sample.Runs(41, 10000) {
+		f := marked(x.F)
 		got, _ := split.Func(f)
-		was := interp.Run(f, x.in)
+		was := interp.Run(f, x.In)
 		more := gone(f, was)
-		in := x.in
+		in := x.In
 		in.Steps = max(in.Steps, 0) + more
 		is := interp.Run(got, in)
 		if !interp.Same(was, is) || is.Steps != was.Steps+more {
-			t.Fatalf("%v, %v: %v, and by %d more %v", f, x.in, was, more, is)
+			t.Fatalf("%v, %v: %v, and by %d more %v", f, x.In, was, more, is)
 		}
 		all += more
 		if was.End != api.EndSteps {
@@ -399,26 +378,9 @@ func TestRuns(t *testing.T) {
 	}
 }
 
-// scribble writes over all that a function has.
-func scribble(f api.Func) {
-	for _, x := range f.Blocks {
-		for _, p := range x.Phis {
-			clear(p.In)
-		}
-		for _, i := range x.Ins {
-			clear(i.Args)
-		}
-		clear(x.Term.Args)
-		clear(x.Term.To)
-		clear(x.Phis)
-		clear(x.Ins)
-	}
-	clear(f.Blocks)
-}
-
 // behind lays something behind each row of a function, and tells whether the function stayed as it was.
 func behind(f api.Func) bool {
-	was := copied(f)
+	was := sample.Copied(f)
 	for _, x := range f.Blocks {
 		for _, p := range x.Phis {
 			_ = append(p.In, api.In{From: 98, Val: 98})
@@ -434,24 +396,24 @@ func behind(f api.Func) bool {
 
 // TestKept: what is handed in stays as it was, and is not kept; what is told is the caller's, and the same each time (R1, R3, R4).
 func TestKept(t *testing.T) {
-	for _, x := range samples(47, 3000) {
-		f := copied(x.f)
+	for _, x := range sample.Runs(47, 3000) {
+		f := sample.Copied(x.F)
 		first, _ := split.Func(f)
 		second, _ := split.Func(f)
-		if !alike(f, x.f) {
-			t.Fatalf("%v: changed to %v", x.f, f)
+		if !alike(f, x.F) {
+			t.Fatalf("%v: changed to %v", x.F, f)
 		}
 		if !reflect.DeepEqual(first, second) || !behind(first) {
 			t.Fatalf("%v: %v, and then %v", f, first, second)
 		}
-		want := copied(first)
-		scribble(second)
-		if !alike(first, want) || !alike(f, x.f) {
-			t.Fatalf("%v: an answer shares something", x.f)
+		want := sample.Copied(first)
+		sample.Scribble(second)
+		if !alike(first, want) || !alike(f, x.F) {
+			t.Fatalf("%v: an answer shares something", x.F)
 		}
-		scribble(f)
-		if again, _ := split.Func(x.f); !alike(first, want) || !alike(again, want) {
-			t.Fatalf("%v: something was kept", x.f)
+		sample.Scribble(f)
+		if again, _ := split.Func(x.F); !alike(first, want) || !alike(again, want) {
+			t.Fatalf("%v: something was kept", x.F)
 		}
 	}
 }

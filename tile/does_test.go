@@ -9,6 +9,7 @@ import (
 	"jacquard/api"
 	"jacquard/check"
 	"jacquard/interp"
+	"jacquard/sample"
 	"jacquard/tile"
 	"jacquard/word"
 )
@@ -218,8 +219,8 @@ func does(t *testing.T, next func(int) int, f api.Func, block, place, pat int, x
 
 // TestDoes: the machine code of a tile, given what it takes, makes what the instruction does, with those inside (P6.7).
 func TestDoes(t *testing.T) {
-	next, runs, traps := numbers(41), make([]int, 38), make([]int, 38)
-	for _, f := range samples(43, 2000) {
+	next, runs, traps := sample.Numbers(41), make([]int, 38), make([]int, 38)
+	for _, f := range sample.Folded(43, 2000) {
 		for b := range f.Blocks {
 			for place := range len(f.Blocks[b].Ins) + 1 {
 				for pat := 1; pat <= 37; pat++ {

@@ -8,6 +8,7 @@ import (
 
 	"jacquard/api"
 	"jacquard/check"
+	"jacquard/sample"
 	"jacquard/tile"
 )
 
@@ -167,8 +168,8 @@ func some(next func(int) int) []api.Tile {
 
 // TestCovers: functions of all kinds, and tables of all kinds, by the document's words (P6.5).
 func TestCovers(t *testing.T) {
-	next, covered, folded := numbers(7), 0, 0
-	for _, f := range samples(17, 2500) {
+	next, covered, folded := sample.Numbers(7), 0, 0
+	for _, f := range sample.Folded(17, 2500) {
 		for range 4 {
 			l := some(next)
 			e, b, p := covers(l, f)
@@ -282,7 +283,7 @@ func TestArg(t *testing.T) {
 func TestEach(t *testing.T) {
 	needed := []int{2, 3, 4, 5, 6, 7, 8, 9, 10, 11, 12, 13, 14, 15, 26, 30, 31, 32, 33, 37}
 	var misses []int
-	for _, f := range samples(29, 400) {
+	for _, f := range sample.Folded(29, 400) {
 		if e, b, p := tile.Covers(of(needed...), f); e != api.OK || b != 0 || p != 0 {
 			t.Fatalf("%v: %v %d %d", f, e, b, p)
 		}
@@ -300,8 +301,8 @@ func TestEach(t *testing.T) {
 
 // TestMore: all patterns cover all functions, and with more tiles no less is covered (P6.7).
 func TestMore(t *testing.T) {
-	next := numbers(23)
-	for _, f := range samples(19, 3000) {
+	next := sample.Numbers(23)
+	for _, f := range sample.Folded(19, 3000) {
 		if e, b, p := tile.Covers(tile.All(), f); e != api.OK || b != 0 || p != 0 {
 			t.Fatalf("%v: %v %d %d", f, e, b, p)
 		}
@@ -356,14 +357,14 @@ func TestLong(t *testing.T) {
 
 // TestTables: a table, and a function, stay as they were (R1), and are told of the same each time (R4).
 func TestTables(t *testing.T) {
-	next := numbers(31)
-	for _, x := range samples(37, 500) {
-		f, l := copied(x), some(next)
+	next := sample.Numbers(31)
+	for _, x := range sample.Folded(37, 500) {
+		f, l := sample.Copied(x), some(next)
 		was := slices.Clone(l)
 		e, b, p := tile.Covers(l, f)
 		again, ab, ap := tile.Covers(l, f)
 		n, at := tile.Check(l)
-		if n != api.OK || at != 0 || e != again || b != ab || p != ap || !slices.Equal(l, was) || !reflect.DeepEqual(f, copied(x)) {
+		if n != api.OK || at != 0 || e != again || b != ab || p != ap || !slices.Equal(l, was) || !reflect.DeepEqual(f, sample.Copied(x)) {
 			t.Fatalf("%v, %v: %v %d %d, then %v %d %d", x, was, e, b, p, again, ab, ap)
 		}
 	}

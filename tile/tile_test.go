@@ -9,28 +9,16 @@ import (
 
 	"jacquard/api"
 	"jacquard/check"
+	"jacquard/sample"
 	"jacquard/tile"
 )
 
 // Short forms for what is written out.
-func ret(l ...int) api.Term          { return api.Term{Kind: api.Ret, Args: l} }
-func jump(to int) api.Term           { return api.Term{Kind: api.Jump, To: []int{to}} }
-func branch(v, a, b int) api.Term    { return api.Term{Kind: api.Branch, Args: []int{v}, To: []int{a, b}} }
-func turn(v int, to ...int) api.Term { return api.Term{Kind: api.Switch, Args: []int{v}, To: to} }
-func con(dst int, imm int32) api.Ins { return api.Ins{Op: api.Const, Dst: dst, Imm: imm} }
-func two(op, dst, a, b int) api.Ins  { return api.Ins{Op: op, Dst: dst, Args: []int{a, b}} }
-func load(dst, a int, imm int32) api.Ins {
-	return api.Ins{Op: api.Load, Dst: dst, Args: []int{a}, Imm: imm}
-}
-func store(a, v int, imm int32) api.Ins {
-	return api.Ins{Op: api.Store, Args: []int{a, v}, Imm: imm}
-}
-func block(t api.Term, l ...api.Ins) api.Block {
-	return api.Block{Ins: l, Term: t}
-}
-func function(params int, l ...api.Block) api.Func {
-	return api.Func{Params: params, Blocks: l}
-}
+var (
+	ret, jump, branch, turn = sample.Ret, sample.Jump, sample.Branch, sample.Switch
+	con, two, load, store   = sample.Const, sample.Two, sample.Load, sample.Store
+	block, function         = sample.Block, sample.Func
+)
 
 // The patterns' names, as the document numbers them.
 const names = "li liw add sub mul and or xor shl shr sar eq lt ltu div addi subi andi shli shri sari madd ld lda ldx ldl st sta stx stl call mulw bnz beq blt bltu jt"
@@ -63,9 +51,9 @@ func asked(f api.Func, block, place, pat, t int) (told, bool) {
 
 // plain is what is told, with rows without items nil.
 func plain(x told) told {
-	x.takes, x.inner, x.code, x.end.To = own(x.takes), own(x.inner), own(x.code), own(x.end.To)
+	x.takes, x.inner, x.code, x.end.To = sample.Own(x.takes), sample.Own(x.inner), sample.Own(x.code), sample.Own(x.end.To)
 	for n := range x.code {
-		x.code[n].Args = own(x.code[n].Args)
+		x.code[n].Args = sample.Own(x.code[n].Args)
 	}
 	return x
 }
@@ -99,7 +87,7 @@ func holdAt(t *testing.T, f api.Func, block, place int, fits []int) {
 // TestSecond: all patterns at all places of functions of all kinds (P6.2, P6.3).
 func TestSecond(t *testing.T) {
 	fits := make([]int, 40)
-	for _, f := range samples(3, 2000) {
+	for _, f := range sample.Folded(3, 2000) {
 		if !check.Right(f) {
 			t.Fatalf("%v may not be", f)
 		}
@@ -365,7 +353,7 @@ func TestEnds(t *testing.T) {
 		{"jt", with(turn(1, 2, 1, 2), 5), 0, 37, api.End{Op: api.EJt, A: 1, To: []int{2, 1, 2}}},
 	} {
 		code, got, ok := tile.Emit(x.f, 0, x.place, x.pat, 77)
-		got.To, x.want.To = own(got.To), own(x.want.To)
+		got.To, x.want.To = sample.Own(got.To), sample.Own(x.want.To)
 		if len(code) > 0 || !ok || !reflect.DeepEqual(got, x.want) {
 			t.Errorf("%s: %v %v %v, not %v", x.name, code, got, ok, x.want)
 		}
@@ -456,22 +444,9 @@ func TestPlaces(t *testing.T) {
 
 // TestSpoilt: functions of all kinds with something wrong (P6.2, P6.3, P6.5): nothing panics.
 func TestSpoilt(t *testing.T) {
-	next, count := numbers(11), 0
-	for _, f := range samples(13, 1200) {
-		f = copied(f)
-		b := &f.Blocks[next(len(f.Blocks))]
-		switch next(4) {
-		case 0:
-			b.Term.Kind = next(7)
-		case 1:
-			b.Term.Args = append(b.Term.Args, next(20))
-		case 2:
-			b.Ins = append(b.Ins, api.Ins{Op: next(20), Dst: next(20), Args: []int{next(20)}})
-		default:
-			for n := range b.Ins {
-				b.Ins[n].Op = next(20)
-			}
-		}
+	next, count := sample.Numbers(11), 0
+	for _, f := range sample.Folded(13, 1200) {
+		f = sample.Spoilt(next, f)
 		if check.Right(f) {
 			continue
 		}
@@ -513,18 +488,18 @@ func overwrite(x told) {
 
 // TestKept: what is handed in stays as it was, and is not kept; what is told is the caller's, and the same each time (R1, R3, R4).
 func TestKept(t *testing.T) {
-	for _, x := range samples(47, 150) {
-		f := copied(x)
+	for _, x := range sample.Folded(47, 150) {
+		f := sample.Copied(x)
 		first, second := everything(f), everything(f)
 		var want []told
 		for n := range first {
 			want = append(want, plain(first[n]))
 			overwrite(second[n])
 		}
-		if !reflect.DeepEqual(f, copied(x)) {
+		if !reflect.DeepEqual(f, sample.Copied(x)) {
 			t.Fatalf("%v: changed to %v", x, f)
 		}
-		scribble(f)
+		sample.Scribble(f)
 		for n, again := range everything(x) {
 			if !alike(first[n], want[n]) || !alike(again, want[n]) {
 				t.Fatalf("%v: %v, then %v, not %v", x, first[n], again, want[n])
@@ -535,14 +510,14 @@ func TestKept(t *testing.T) {
 
 // TestRows: no two rows of one answer share anything (R1).
 func TestRows(t *testing.T) {
-	for _, f := range samples(53, 200) {
+	for _, f := range sample.Folded(53, 200) {
 		for _, x := range everything(f) {
 			want := plain(x)
 			_, _, _, _ = append(x.takes, 98), append(x.inner, 97), append(x.code, api.Mach{Op: 96}), append(x.end.To, 95)
 			if !alike(x, want) {
 				t.Fatalf("%v: %v, not %v", f, x, want)
 			}
-			inner, code, to := own(x.inner), plain(x).code, own(x.end.To)
+			inner, code, to := sample.Own(x.inner), plain(x).code, sample.Own(x.end.To)
 			clear(x.takes)
 			if !slices.Equal(x.inner, inner) || !reflect.DeepEqual(plain(x).code, code) || !slices.Equal(x.end.To, to) {
 				t.Fatalf("%v: rows of %v share something", f, want)

@@ -1,4 +1,4 @@
-package tile_test
+package sample
 
 import (
 	"math"
@@ -8,16 +8,8 @@ import (
 	"jacquard/graph"
 )
 
-// numbers tell numbers that are all over the place, the same each time.
-func numbers(seed uint32) func(below int) int {
-	return func(below int) int {
-		seed = seed*1664525 + 1013904223
-		return int(seed>>8) % below
-	}
-}
-
-// grower makes a function whose values are mostly operands just once, close behind, as patterns need it.
-type grower struct {
+// folder makes a function whose values are mostly operands just once, close behind, as patterns need it.
+type folder struct {
 	next  func(int) int
 	f     api.Func
 	top   int
@@ -26,10 +18,10 @@ type grower struct {
 	fresh []int   // of the block that is made: what was no operand yet
 }
 
-// grown is a function that may be.
-func grown(next func(int) int) api.Func {
+// folded is a function that may be.
+func folded(next func(int) int) api.Func {
 	n := 1 + next(5)
-	g := grower{next: next, f: api.Func{Params: next(5), Blocks: make([]api.Block, n)}, own: make([][]int, n)}
+	g := folder{next: next, f: api.Func{Params: next(5), Blocks: make([]api.Block, n)}, own: make([][]int, n)}
 	g.top = g.f.Params
 	for v := range g.f.Params {
 		g.all = append(g.all, v)
@@ -43,7 +35,7 @@ func grown(next func(int) int) api.Func {
 }
 
 // odd is a number at which patterns begin or end to fit, or near.
-func (g *grower) odd() int32 {
+func (g *folder) odd() int32 {
 	if g.next(3) == 0 {
 		return int32(g.next(32))
 	}
@@ -52,7 +44,7 @@ func (g *grower) odd() int32 {
 }
 
 // pick is any operand at the end of a block: most often one that was none yet; by an operation that is wished for, if there is one.
-func (g *grower) pick(b, op int) int {
+func (g *folder) pick(b, op int) int {
 	for n, v := range slices.Backward(g.fresh) {
 		if g.next(3) > 0 && (op == 0 || g.op(b, v) == op) {
 			if g.next(6) > 0 {
@@ -66,7 +58,7 @@ func (g *grower) pick(b, op int) int {
 }
 
 // op is the operation that makes a value in a block; 0, if none does.
-func (g *grower) op(b, v int) int {
+func (g *folder) op(b, v int) int {
 	for _, i := range g.f.Blocks[b].Ins {
 		if i.Op != api.Store && i.Dst == v {
 			return i.Op
@@ -76,7 +68,7 @@ func (g *grower) op(b, v int) int {
 }
 
 // value is one that a block makes.
-func (g *grower) value(b int) int {
+func (g *folder) value(b int) int {
 	v := g.top
 	g.top += 1 + g.next(2)
 	g.own[b] = append(g.own[b], v)
@@ -88,7 +80,7 @@ func (g *grower) value(b int) int {
 }
 
 // lay lays an instruction, and makes its values.
-func (g *grower) lay(b int, i api.Ins) {
+func (g *folder) lay(b int, i api.Ins) {
 	if i.Op != api.Store {
 		i.Dst = g.value(b)
 	} else if g.next(2) == 0 {
@@ -102,7 +94,7 @@ func (g *grower) lay(b int, i api.Ins) {
 }
 
 // fill gives a block phis without operands, instructions, and its term.
-func (g *grower) fill(b int) {
+func (g *folder) fill(b int) {
 	g.fresh = nil
 	for range g.next(3) * min(b, 1) {
 		v := g.value(b)
@@ -119,7 +111,7 @@ func (g *grower) fill(b int) {
 }
 
 // last is the value that was made last: it counts as an operand by now.
-func (g *grower) last() int {
+func (g *folder) last() int {
 	n := len(g.fresh) - 1
 	v := g.fresh[n]
 	g.fresh = g.fresh[:n]
@@ -127,7 +119,7 @@ func (g *grower) last() int {
 }
 
 // shape lays a Const, and what may have it inside: an instruction of its own, or an Add that an address is.
-func (g *grower) shape(b int) {
+func (g *folder) shape(b int) {
 	k := g.odd()
 	g.lay(b, api.Ins{Op: api.Const, Imm: k})
 	c := g.last()
@@ -147,7 +139,7 @@ func (g *grower) shape(b int) {
 }
 
 // instruction is one of any operation; those that patterns have inside are the most.
-func (g *grower) instruction(b int) api.Ins {
+func (g *folder) instruction(b int) api.Ins {
 	wishes := []int{api.Const, api.Const, api.Const, api.Add, api.Add, api.Mul, api.Load, api.Store}
 	op := 1 + g.next(18)
 	if g.next(2) == 0 {
@@ -177,7 +169,7 @@ func (g *grower) instruction(b int) api.Ins {
 }
 
 // term goes on to the next block, and to any others; from the last one, now and then, nowhere.
-func (g *grower) term(b int) api.Term {
+func (g *folder) term(b int) api.Term {
 	n := len(g.f.Blocks)
 	t := api.Term{Imm: g.odd()}
 	if b+1 < n {
@@ -207,7 +199,7 @@ func (g *grower) term(b int) api.Term {
 }
 
 // compared is an operand for a Branch: often a compare that was laid just for it.
-func (g *grower) compared(b, op int) int {
+func (g *folder) compared(b, op int) int {
 	if g.next(2) == 0 {
 		g.lay(b, api.Ins{Op: op, Args: []int{g.pick(b, 0), g.pick(b, 0)}})
 	}
@@ -215,7 +207,7 @@ func (g *grower) compared(b, op int) int {
 }
 
 // phis gives all phis their operands.
-func (g *grower) phis() {
+func (g *folder) phis() {
 	preds := graph.Preds(graph.Of(g.f))
 	for b := range g.f.Blocks {
 		for n := range g.f.Blocks[b].Phis {
@@ -228,51 +220,12 @@ func (g *grower) phis() {
 	}
 }
 
-// samples are many functions that may be.
-func samples(seed uint32, count int) []api.Func {
-	next := numbers(seed)
+// Folded are many functions that may be, and that patterns of all kinds fit: most values are operands once, close behind. (Few of their runs come far: addresses are anything.)
+func Folded(seed uint32, count int) []api.Func {
+	next := Numbers(seed)
 	var l []api.Func
 	for range count {
-		l = append(l, grown(next))
+		l = append(l, folded(next))
 	}
 	return l
-}
-
-// own is a row of its own; nil, if it has no items.
-func own[T any](row []T) []T {
-	return append([]T(nil), row...)
-}
-
-// copied is a function of rows of its own; those without items are nil.
-func copied(f api.Func) api.Func {
-	f.Blocks = own(f.Blocks)
-	for b := range f.Blocks {
-		x := &f.Blocks[b]
-		x.Phis, x.Ins = own(x.Phis), own(x.Ins)
-		for n := range x.Phis {
-			x.Phis[n].In = own(x.Phis[n].In)
-		}
-		for n := range x.Ins {
-			x.Ins[n].Args = own(x.Ins[n].Args)
-		}
-		x.Term.Args, x.Term.To = own(x.Term.Args), own(x.Term.To)
-	}
-	return f
-}
-
-// scribble writes over all that a function has.
-func scribble(f api.Func) {
-	for _, x := range f.Blocks {
-		for _, p := range x.Phis {
-			clear(p.In)
-		}
-		for _, i := range x.Ins {
-			clear(i.Args)
-		}
-		clear(x.Term.Args)
-		clear(x.Term.To)
-		clear(x.Phis)
-		clear(x.Ins)
-	}
-	clear(f.Blocks)
 }

@@ -1,41 +1,11 @@
-package split_test
+package sample
 
 import (
-	"math"
 	"slices"
 
 	"jacquard/api"
 	"jacquard/graph"
 )
-
-// numbers tell numbers that are all over the place, the same each time.
-func numbers(seed uint32) func(below int) int {
-	return func(below int) int {
-		seed = seed*1664525 + 1013904223
-		return int(seed>>8) % below
-	}
-}
-
-// words are such as are worth a look: small ones, and those at the ends.
-func words(next func(int) int) int32 {
-	odd := []int32{math.MinInt32, math.MinInt32 + 1, -65536, -33, -1, 31, 32, 65535, math.MaxInt32 - 1, math.MaxInt32}
-	switch next(4) {
-	case 0:
-		return odd[next(len(odd))]
-	case 1:
-		return int32(uint32(next(1<<16))<<16 | uint32(next(1<<16)))
-	}
-	return int32(next(12) - 3)
-}
-
-// row is a row of words, of any length below one.
-func row(next func(int) int, below int) []int32 {
-	var l []int32
-	for range next(below) {
-		l = append(l, words(next))
-	}
-	return l
-}
 
 // ways gives each of n blocks a term, so that each is reached: by one of those ahead of it.
 func ways(n int, next func(int) int) []api.Block {
@@ -51,7 +21,7 @@ func ways(n int, next func(int) int) []api.Block {
 		}
 		switch len(t.To) {
 		case 0:
-			t.Kind, t.Imm = api.Ret+next(2), words(next)
+			t.Kind, t.Imm = api.Ret+next(2), Word(next)
 		case 1:
 			t.Kind = api.Jump
 		case 2:
@@ -63,8 +33,8 @@ func ways(n int, next func(int) int) []api.Block {
 	return blocks
 }
 
-// grower makes a function of blocks that have terms.
-type grower struct {
+// runner makes a function of blocks that have terms.
+type runner struct {
 	next func(int) int
 	f    api.Func
 	made [][]int // by blocks: what is made in them, by then
@@ -74,7 +44,7 @@ type grower struct {
 
 // grown is a function that may be.
 func grown(next func(int) int) api.Func {
-	g := grower{next: next, f: api.Func{Params: next(5), Blocks: ways(1+next(6), next)}}
+	g := runner{next: next, f: api.Func{Params: next(5), Blocks: ways(1+next(6), next)}}
 	g.top = g.f.Params
 	g.made = make([][]int, len(g.f.Blocks))
 	g.idom = graph.Idom(graph.Of(g.f))
@@ -82,7 +52,7 @@ func grown(next func(int) int) api.Func {
 		g.made[0] = append(g.made[0], v)
 	}
 	// Words to begin with: addresses, and what can be divided by.
-	for _, imm := range []int32{int32(next(6)), 1 + int32(next(3)), words(next)} {
+	for _, imm := range []int32{int32(next(6)), 1 + int32(next(3)), Word(next)} {
 		g.f.Blocks[0].Ins = append(g.f.Blocks[0].Ins, api.Ins{Op: api.Const, Dst: g.fresh(0), Imm: imm})
 	}
 	// Blocks stand behind what dominates them, so that all that is made on all ways is there.
@@ -94,7 +64,7 @@ func grown(next func(int) int) api.Func {
 }
 
 // fresh is a value that is made in a block.
-func (g *grower) fresh(b int) int {
+func (g *runner) fresh(b int) int {
 	v := g.top
 	g.top += 1 + g.next(3)
 	g.made[b] = append(g.made[b], v)
@@ -102,7 +72,7 @@ func (g *grower) fresh(b int) int {
 }
 
 // pick is a value that is made on all ways to the end of a block.
-func (g *grower) pick(b int) int {
+func (g *runner) pick(b int) int {
 	var l []int
 	for ; b >= 0; b = g.idom[b] {
 		l = append(l, g.made[b]...)
@@ -111,7 +81,7 @@ func (g *grower) pick(b int) int {
 }
 
 // start is one of the words to begin with, now and then; else any value.
-func (g *grower) start(b, n int) int {
+func (g *runner) start(b, n int) int {
 	if g.next(4) > 0 {
 		return g.f.Blocks[0].Ins[n].Dst
 	}
@@ -119,7 +89,7 @@ func (g *grower) start(b, n int) int {
 }
 
 // fill gives a block phis without operands, instructions, and its term's operands.
-func (g *grower) fill(b int) {
+func (g *runner) fill(b int) {
 	block := &g.f.Blocks[b]
 	for range g.next(4) * min(b, 1) {
 		block.Phis = append(block.Phis, api.Phi{Dst: g.fresh(b)})
@@ -133,8 +103,8 @@ func (g *grower) fill(b int) {
 }
 
 // instruction is one of any operation.
-func (g *grower) instruction(b int) api.Ins {
-	i := api.Ins{Op: 1 + g.next(18), Imm: words(g.next)}
+func (g *runner) instruction(b int) api.Ins {
+	i := api.Ins{Op: 1 + g.next(18), Imm: Word(g.next)}
 	count := 2
 	switch i.Op {
 	case api.Const:
@@ -163,7 +133,7 @@ func (g *grower) instruction(b int) api.Ins {
 }
 
 // phis gives all phis their operands.
-func (g *grower) phis() {
+func (g *runner) phis() {
 	preds := graph.Preds(graph.Of(g.f))
 	for b := range g.f.Blocks {
 		for n := range g.f.Blocks[b].Phis {
@@ -175,20 +145,20 @@ func (g *grower) phis() {
 	}
 }
 
-// sample is a function that may be, and an input.
-type sample struct {
-	f  api.Func
-	in api.Input
+// Run is a function that may be, and an input.
+type Run struct {
+	F  api.Func
+	In api.Input
 }
 
-// samples are many.
-func samples(seed uint32, count int) []sample {
-	next := numbers(seed)
-	var l []sample
+// Runs are many, of all kinds of ends: their addresses, and what is divided by, are mostly such as may be.
+func Runs(seed uint32, count int) []Run {
+	next := Numbers(seed)
+	var l []Run
 	for range count {
 		f := grown(next)
-		in := api.Input{Args: row(next, 7), Mem: row(next, 16), Answers: row(next, 6), Steps: next(90) - 3}
-		l = append(l, sample{f, in})
+		in := api.Input{Args: Words(next, 7), Mem: Words(next, 16), Answers: Words(next, 6), Steps: next(90) - 3}
+		l = append(l, Run{f, in})
 	}
 	return l
 }

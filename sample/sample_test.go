@@ -1,0 +1,27 @@
+package sample_test
+
+import (
+	"reflect"
+	"testing"
+
+	"jacquard/check"
+	"jacquard/sample"
+)
+
+// TestRight: all samples are functions that may be, and the same each time.
+func TestRight(t *testing.T) {
+	runs, folded := sample.Runs(3, 2000), sample.Folded(5, 2000)
+	for _, x := range runs {
+		if !check.Right(x.F) {
+			t.Fatalf("%v may not be", x.F)
+		}
+	}
+	for _, f := range folded {
+		if !check.Right(f) {
+			t.Fatalf("%v may not be", f)
+		}
+	}
+	if !reflect.DeepEqual(runs, sample.Runs(3, 2000)) || !reflect.DeepEqual(folded, sample.Folded(5, 2000)) {
+		t.Error("others the second time")
+	}
+}
