@@ -19,19 +19,8 @@ var (
 	ret, jump, branch, turn = sample.Ret, sample.Jump, sample.Branch, sample.Switch
 	con, two, load, store   = sample.Const, sample.Two, sample.Load, sample.Store
 	block, function         = sample.Block, sample.Func
+	table, usual, anyTable  = sample.Table, sample.Usual, sample.AnyTable
 )
-
-// table is one of patterns, each with its cost.
-func table(l ...int) []api.Tile {
-	var all []api.Tile
-	for n := 0; n < len(l); n += 2 {
-		all = append(all, api.Tile{Pat: l[n], Cost: l[n+1]})
-	}
-	return all
-}
-
-// usual is the table of all patterns, with other tiles behind.
-func usual(l ...int) []api.Tile { return slices.Concat(tile.All(), table(l...)) }
 
 // asked is what the program tells of a function and a table.
 func asked(f api.Func, l []api.Tile) chosen {
@@ -57,20 +46,6 @@ func hold(t *testing.T, name string, f api.Func, l []api.Tile) chosen {
 		t.Fatalf("%s: %v, %v: %v, not %v", name, f, l, got, want)
 	}
 	return got
-}
-
-// anyTable is one of some patterns, or of all but a few, in any order; many sums come out the same.
-func anyTable(next func(int) int) []api.Tile {
-	var l []api.Tile
-	lacks, costs := 2+next(25), []int{1, 2, 3, 4, 8, 1001}[next(6)]
-	for range 1 + next(2) {
-		for pat := 1; pat <= 37; pat++ {
-			if next(lacks) > 0 {
-				l = slices.Insert(l, next(len(l)+1), api.Tile{Pat: pat, Cost: next(costs)})
-			}
-		}
-	}
-	return l
 }
 
 // TestSecond: functions and tables of all kinds, by the document's words (P8.1, P8.2, P8.3).

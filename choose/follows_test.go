@@ -6,7 +6,6 @@ import (
 
 	"jacquard/api"
 	"jacquard/choose"
-	"jacquard/interp"
 	"jacquard/mach"
 	"jacquard/sample"
 	"jacquard/tile"
@@ -159,22 +158,6 @@ func TestMore(t *testing.T) {
 	}
 }
 
-// does holds what machine code does against what the function does, if that ends.
-func does(t *testing.T, f api.Func, m api.MFunc, in api.Input) int {
-	t.Helper()
-	in.Steps = 400
-	want := interp.Run(f, in)
-	if want.End == api.EndSteps {
-		return want.End
-	}
-	// Each step is one or two instructions, or none.
-	in.Steps *= 2
-	if got := mach.Run(m, in); !interp.Same(got, want) {
-		t.Fatalf("%v, %v: %v: %v, not %v", f, in, m, got, want)
-	}
-	return want.End
-}
-
 // TestDoes: what is told may be machine code, and does what the function does (P8.4).
 func TestDoes(t *testing.T) {
 	next, ends := sample.Numbers(43), map[int]int{}
@@ -187,17 +170,17 @@ func TestDoes(t *testing.T) {
 		if fault, b, p := mach.Func(m); e != api.OK || fault != api.OK {
 			t.Fatalf("%v, %v: %v %v: %v at %d, %d", f, l, m, e, fault, b, p)
 		}
-		ends[does(t, f, m, in)]++
+		end, same := sample.Beside(f, m, in)
+		if !same {
+			t.Fatalf("%v, %v: %v does another thing", f, in, m)
+		}
+		ends[end]++
 	}
 	for _, x := range sample.Runs(47, 6000) {
 		run(x.F, x.In)
 	}
 	for _, f := range sample.Folded(53, 3000) {
-		in := api.Input{Args: sample.Words(next, 6), Answers: sample.Words(next, 6)}
-		for range api.MaxMem {
-			in.Mem = append(in.Mem, int32(next(300)))
-		}
-		run(f, in)
+		run(f, sample.Full(next))
 	}
 	if ends[api.EndRet] < 1000 || ends[api.EndTrap] < 1000 {
 		t.Errorf("only these runs end: %v", ends)

@@ -38,13 +38,7 @@ func function(params int, l ...api.Block) api.Func {
 }
 
 // phi is one of operands by where control comes from.
-func phi(dst int, l ...int) api.Phi {
-	p := api.Phi{Dst: dst}
-	for i := 0; i < len(l); i += 2 {
-		p.In = append(p.In, api.In{From: l[i], Val: l[i+1]})
-	}
-	return p
-}
+func phi(dst int, l ...int) api.Phi { return sample.Phi(dst, l...) }
 
 // with is a block with phis.
 func with(b api.Block, l ...api.Phi) api.Block {

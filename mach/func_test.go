@@ -11,33 +11,11 @@ import (
 )
 
 // Short forms for what is written out.
-func ret(a int) api.End                 { return api.End{Op: api.ERet, A: a} }
-func trap(imm int32) api.End            { return api.End{Op: api.ETrap, Imm: imm} }
-func jump(to int) api.End               { return api.End{Op: api.EJ, To: []int{to}} }
-func bnz(a, yes, no int) api.End        { return api.End{Op: api.EBnz, A: a, To: []int{yes, no}} }
-func end(op, a, b, yes, no int) api.End { return api.End{Op: op, A: a, B: b, To: []int{yes, no}} }
-func jt(a int, to ...int) api.End       { return api.End{Op: api.EJt, A: a, To: to} }
-func li(d int, imm int32) api.Mach      { return api.Mach{Op: api.MLi, D: d, Imm: imm} }
-func abc(op, d, a, b, c int) api.Mach   { return api.Mach{Op: op, D: d, A: a, B: b, C: c} }
-func imm(op, d, a int, n int32) api.Mach {
-	return api.Mach{Op: op, D: d, A: a, Imm: n}
-}
-func call(d int, callee int32, l ...int) api.Mach {
-	return api.Mach{Op: api.MCall, D: d, Imm: callee, Args: l}
-}
-func block(e api.End, l ...api.Mach) api.MBlock { return api.MBlock{Ins: l, End: e} }
-func code(params int, l ...api.MBlock) api.MFunc {
-	return api.MFunc{Params: params, Blocks: l}
-}
-
-// phi is one of registers by where control comes from.
-func phi(dst int, l ...int) api.Phi {
-	p := api.Phi{Dst: dst}
-	for i := 0; i < len(l); i += 2 {
-		p.In = append(p.In, api.In{From: l[i], Val: l[i+1]})
-	}
-	return p
-}
+var (
+	ret, trap, jump, bnz, end, jt = sample.ERet, sample.ETrap, sample.EJ, sample.EBnz, sample.ETwo, sample.EJt
+	li, abc, imm, call            = sample.MLi, sample.MThree, sample.MImm, sample.MCall
+	block, code, phi              = sample.MBlock, sample.MFunc, sample.Phi
+)
 
 // with is a block with phis.
 func with(b api.MBlock, l ...api.Phi) api.MBlock {

@@ -39,3 +39,52 @@ func Block(t api.Term, l ...api.Ins) api.Block { return api.Block{Ins: l, Term: 
 
 // Func is one of such blocks.
 func Func(params int, l ...api.Block) api.Func { return api.Func{Params: params, Blocks: l} }
+
+// Phi is one of operands by where control comes from: blocks, each with an operand.
+func Phi(dst int, l ...int) api.Phi {
+	p := api.Phi{Dst: dst}
+	for i := 0; i < len(l); i += 2 {
+		p.In = append(p.In, api.In{From: l[i], Val: l[i+1]})
+	}
+	return p
+}
+
+// ERet is an end that returns a register; below 0, nothing.
+func ERet(a int) api.End { return api.End{Op: api.ERet, A: a} }
+
+// ETrap is an end by a trap.
+func ETrap(imm int32) api.End { return api.End{Op: api.ETrap, Imm: imm} }
+
+// EJ is an end that goes on to a block.
+func EJ(to int) api.End { return api.End{Op: api.EJ, To: []int{to}} }
+
+// EBnz is an end that goes on by a register.
+func EBnz(a, yes, no int) api.End { return api.End{Op: api.EBnz, A: a, To: []int{yes, no}} }
+
+// ETwo is an end that goes on by how two registers compare.
+func ETwo(op, a, b, yes, no int) api.End {
+	return api.End{Op: op, A: a, B: b, To: []int{yes, no}}
+}
+
+// EJt is an end that goes on by a table.
+func EJt(a int, to ...int) api.End { return api.End{Op: api.EJt, A: a, To: to} }
+
+// MLi is a number of 16 bits.
+func MLi(d int, imm int32) api.Mach { return api.Mach{Op: api.MLi, D: d, Imm: imm} }
+
+// MThree is an instruction of up to three registers.
+func MThree(op, d, a, b, c int) api.Mach { return api.Mach{Op: op, D: d, A: a, B: b, C: c} }
+
+// MImm is an instruction of a register and a number.
+func MImm(op, d, a int, n int32) api.Mach { return api.Mach{Op: op, D: d, A: a, Imm: n} }
+
+// MCall is a call.
+func MCall(d int, callee int32, l ...int) api.Mach {
+	return api.Mach{Op: api.MCall, D: d, Imm: callee, Args: l}
+}
+
+// MBlock is a block of machine code without phis.
+func MBlock(e api.End, l ...api.Mach) api.MBlock { return api.MBlock{Ins: l, End: e} }
+
+// MFunc is machine code of such blocks.
+func MFunc(params int, l ...api.MBlock) api.MFunc { return api.MFunc{Params: params, Blocks: l} }
