@@ -166,12 +166,12 @@ func doing(t *testing.T, i api.Mach, s, want state, val int32, ok bool) {
 func TestDo(t *testing.T) {
 	next, traps, done := sample.Numbers(31), map[int32]int{}, make([]int, 32)
 	for range 200000 {
-		s := state{rowOf(next, 12), rowOf(next, 20)}
-		i := api.Mach{Op: 1 + next(31), Imm: words(next), Args: []int{next(5)}}
+		s := state{sample.MWords(next, 12), sample.MWords(next, 20)}
+		i := api.Mach{Op: 1 + next(31), Imm: sample.MWord(next), Args: []int{next(5)}}
 		for _, field := range []*int{&i.D, &i.E, &i.A, &i.B, &i.C} {
 			*field = next(10)
 			if next(12) == 0 {
-				*field = one(next, far...)
+				*field = sample.One(next, far...)
 			}
 		}
 		if next(3) == 0 {
@@ -249,15 +249,15 @@ func TestHangs(t *testing.T) {
 	next := sample.Numbers(91)
 	for range 60000 {
 		i := api.Mach{Op: 1 + next(31), D: next(8), E: next(8), A: next(8), B: next(8), C: next(8), Imm: int32(next(9) - 2), Args: []int{next(8)}}
-		s := state{mem: rowOf(next, 9)}
+		s := state{mem: sample.MWords(next, 9)}
 		for range 8 {
-			s.regs = append(s.regs, words(next))
+			s.regs = append(s.regs, sample.MWord(next))
 		}
 		makes, takes := mach.Makes(i), mach.Takes(i)
 		one, other := s.copy(), s.copy()
 		for r := range other.regs {
 			if !slices.Contains(takes, r) {
-				other.regs[r] = words(next)
+				other.regs[r] = sample.MWord(next)
 			}
 		}
 		was := other.copy()

@@ -14,14 +14,8 @@ import (
 var (
 	ret, trap, jump, bnz, end, jt = sample.ERet, sample.ETrap, sample.EJ, sample.EBnz, sample.ETwo, sample.EJt
 	li, abc, imm, call            = sample.MLi, sample.MThree, sample.MImm, sample.MCall
-	block, code, phi              = sample.MBlock, sample.MFunc, sample.Phi
+	block, code, phi, with        = sample.MBlock, sample.MFunc, sample.Phi, sample.With
 )
-
-// with is a block with phis.
-func with(b api.MBlock, l ...api.Phi) api.MBlock {
-	b.Phis = l
-	return b
-}
 
 // told is what the program tells of machine code.
 func told(m api.MFunc) fault {
@@ -46,10 +40,10 @@ func hold(t *testing.T, name string, m api.MFunc, want fault) {
 // TestSpoilt: of code of all kinds, as it may be and changed in any way, the first fault is told (P7.2).
 func TestSpoilt(t *testing.T) {
 	next, seen := sample.Numbers(77), map[api.Errno]int{}
-	for _, x := range samples(5, 6000) {
-		hold(t, "as it may be", x.m, fault{})
+	for _, x := range sample.MRuns(5, 6000) {
+		hold(t, "as it may be", x.M, fault{})
 		for range 6 {
-			m := sample.CopiedCode(x.m)
+			m := sample.CopiedCode(x.M)
 			for range 1 + next(2) {
 				spoilt(&m, next)
 			}
@@ -73,10 +67,10 @@ func spoilt(m *api.MFunc, next func(int) int) {
 		return
 	}
 	x := &m.Blocks[next(len(m.Blocks))]
-	odd := one(next, math.MinInt, -9000, -1, 0, 1, 8191, 8192, math.MaxInt)
+	odd := sample.One(next, math.MinInt, -9000, -1, 0, 1, 8191, 8192, math.MaxInt)
 	switch next(8) {
 	case 0:
-		m.Params = one(next, -1, 0, 4, 5, 3)
+		m.Params = sample.One(next, -1, 0, 4, 5, 3)
 	case 1:
 		switch next(3) {
 		case 0:
@@ -112,7 +106,7 @@ func spoiltEnd(e *api.End, next func(int) int, odd int) {
 		e.To = e.To[:len(e.To)-min(len(e.To), 1)]
 	default:
 		if len(e.To) > 0 {
-			e.To[next(len(e.To))] = one(next, odd, 1, 2, 3)
+			e.To[next(len(e.To))] = sample.One(next, odd, 1, 2, 3)
 		}
 	}
 }
@@ -136,7 +130,7 @@ func spoiltPhis(x *api.MBlock, next func(int) int, odd int) {
 	case 2:
 		p.In[k].Val = odd
 	case 3:
-		p.In[k].From = one(next, odd, 2, 3)
+		p.In[k].From = sample.One(next, odd, 2, 3)
 	case 4:
 		p.In = slices.Delete(p.In, k, k+1)
 		p.In = append(p.In, make([]api.In, next(2))...)
@@ -147,7 +141,7 @@ func spoiltPhis(x *api.MBlock, next func(int) int, odd int) {
 
 // spoiltIns changes something of an instruction.
 func spoiltIns(i *api.Mach, next func(int) int, odd int) {
-	field := one(next, &i.D, &i.E, &i.A, &i.B, &i.C)
+	field := sample.One(next, &i.D, &i.E, &i.A, &i.B, &i.C)
 	switch next(8) {
 	case 0:
 		i.Op = next(35) - 1
@@ -156,7 +150,7 @@ func spoiltIns(i *api.Mach, next func(int) int, odd int) {
 	case 2:
 		*i = api.Mach{Op: api.MMulw, D: i.D, E: i.D, A: i.A, B: i.B}
 	case 3, 4:
-		i.Imm = one[int32](next, math.MinInt32, -32769, -32768, -129, -128, -1, 0, 31, 32, 127, 128, 255, 256, 32767, 32768, math.MaxInt32)
+		i.Imm = sample.One[int32](next, math.MinInt32, -32769, -32768, -129, -128, -1, 0, 31, 32, 127, 128, 255, 256, 32767, 32768, math.MaxInt32)
 	default:
 		*field = odd
 	}

@@ -38,10 +38,10 @@ func ended(end int, val int32, steps int) api.Outcome {
 // TestSecond: code of all kinds does what the document's words say (P7.5).
 func TestSecond(t *testing.T) {
 	seen, calls, steps := map[[2]int32]int{}, 0, 0
-	for _, x := range samples(3, 30000) {
-		want := reckoned(x.m, x.in)
-		if got := mach.Run(x.m, x.in); !alike(got, want) {
-			t.Fatalf("%v, %v: %v, not %v", x.m, x.in, got, want)
+	for _, x := range sample.MRuns(3, 30000) {
+		want := reckoned(x.M, x.In)
+		if got := mach.Run(x.M, x.In); !alike(got, want) {
+			t.Fatalf("%v, %v: %v, not %v", x.M, x.In, got, want)
 		}
 		key := [2]int32{int32(want.End)}
 		if want.End == api.EndTrap && (want.Val == api.TrapDiv || want.Val == api.TrapMem) {
@@ -192,12 +192,12 @@ func TestPhis(t *testing.T) {
 
 // TestSteps: each instruction and each end is one; with more of them a run goes on as it did with fewer (P7.5).
 func TestSteps(t *testing.T) {
-	for _, x := range samples(19, 1500) {
+	for _, x := range sample.MRuns(19, 1500) {
 		var before api.Outcome
 		for steps := -2; steps < 50; steps++ {
-			x.in.Steps = steps
-			got := mach.Run(x.m, x.in)
-			if !alike(got, reckoned(x.m, x.in)) {
+			x.In.Steps = steps
+			got := mach.Run(x.M, x.In)
+			if !alike(got, reckoned(x.M, x.In)) {
 				t.Fatalf("%v: %v", x, got)
 			}
 			if got.End == api.EndSteps && (got.Steps != max(steps, 0) || got.Val != 0) || got.Steps > max(steps, 0) {
@@ -228,16 +228,16 @@ func spoil(o api.Outcome) {
 
 // TestKept: what is handed in stays as it was, and is not kept; what is told is the caller's, and the same each time (P7.6, R1, R3, R4).
 func TestKept(t *testing.T) {
-	for _, x := range samples(7, 3000) {
-		m, in := sample.CopiedCode(x.m), api.Input{Args: slices.Clone(x.in.Args), Mem: slices.Clone(x.in.Mem), Answers: slices.Clone(x.in.Answers), Steps: x.in.Steps}
+	for _, x := range sample.MRuns(7, 3000) {
+		m, in := sample.CopiedCode(x.M), api.Input{Args: slices.Clone(x.In.Args), Mem: slices.Clone(x.In.Mem), Answers: slices.Clone(x.In.Answers), Steps: x.In.Steps}
 		first, second := mach.Run(m, in), mach.Run(m, in)
-		want := reckoned(x.m, x.in)
+		want := reckoned(x.M, x.In)
 		e, at, place := mach.Func(m)
-		if !reflect.DeepEqual(m, sample.CopiedCode(x.m)) || !reflect.DeepEqual(in, x.in) || e != api.OK || at != 0 || place != 0 {
-			t.Fatalf("%v, %v: changed to %v, %v", x.m, x.in, m, in)
+		if !reflect.DeepEqual(m, sample.CopiedCode(x.M)) || !reflect.DeepEqual(in, x.In) || e != api.OK || at != 0 || place != 0 {
+			t.Fatalf("%v, %v: changed to %v, %v", x.M, x.In, m, in)
 		}
 		spoil(second)
-		if !alike(first, want) || !reflect.DeepEqual(in, x.in) || !reflect.DeepEqual(m, sample.CopiedCode(x.m)) {
+		if !alike(first, want) || !reflect.DeepEqual(in, x.In) || !reflect.DeepEqual(m, sample.CopiedCode(x.M)) {
 			t.Fatalf("%v, %v: an answer shares something", m, in)
 		}
 		clear(in.Args)
@@ -248,8 +248,8 @@ func TestKept(t *testing.T) {
 			clear(b.Ins)
 			clear(b.End.To)
 		}
-		if !alike(first, want) || !alike(mach.Run(x.m, x.in), want) {
-			t.Fatalf("%v, %v: something was kept", x.m, x.in)
+		if !alike(first, want) || !alike(mach.Run(x.M, x.In), want) {
+			t.Fatalf("%v, %v: something was kept", x.M, x.In)
 		}
 	}
 }
@@ -327,7 +327,7 @@ func TestLikeFunctions(t *testing.T) {
 		t.Fatalf("%v: %v", m, got)
 	}
 	for range 3000 {
-		in := api.Input{Args: []int32{int32(next(7))}, Mem: rowOf(next, 9), Steps: next(120)}
+		in := api.Input{Args: []int32{int32(next(7))}, Mem: sample.MWords(next, 9), Steps: next(120)}
 		for range next(20) {
 			in.Answers = append(in.Answers, int32(next(4)))
 		}

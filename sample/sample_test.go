@@ -5,12 +5,13 @@ import (
 	"testing"
 
 	"jacquard/check"
+	"jacquard/mach"
 	"jacquard/sample"
 )
 
-// TestRight: all samples are functions that may be, and the same each time.
+// TestRight: all samples are functions, and machine code, that may be, and the same each time.
 func TestRight(t *testing.T) {
-	runs, folded := sample.Runs(3, 2000), sample.Folded(5, 2000)
+	runs, folded, code := sample.Runs(3, 2000), sample.Folded(5, 2000), sample.MRuns(7, 2000)
 	for _, x := range runs {
 		if !check.Right(x.F) {
 			t.Fatalf("%v may not be", x.F)
@@ -21,7 +22,12 @@ func TestRight(t *testing.T) {
 			t.Fatalf("%v may not be", f)
 		}
 	}
-	if !reflect.DeepEqual(runs, sample.Runs(3, 2000)) || !reflect.DeepEqual(folded, sample.Folded(5, 2000)) {
+	for _, x := range code {
+		if !mach.Right(x.M) {
+			t.Fatalf("%v may not be", x.M)
+		}
+	}
+	if !reflect.DeepEqual(runs, sample.Runs(3, 2000)) || !reflect.DeepEqual(folded, sample.Folded(5, 2000)) || !reflect.DeepEqual(code, sample.MRuns(7, 2000)) {
 		t.Error("others the second time")
 	}
 }

@@ -86,5 +86,11 @@ func MCall(d int, callee int32, l ...int) api.Mach {
 // MBlock is a block of machine code without phis.
 func MBlock(e api.End, l ...api.Mach) api.MBlock { return api.MBlock{Ins: l, End: e} }
 
-// MFunc is machine code of such blocks.
+// With is a block of machine code with phis.
+func With(b api.MBlock, l ...api.Phi) api.MBlock {
+	b.Phis = l
+	return b
+}
+
+// MFunc is machine code of blocks.
 func MFunc(params int, l ...api.MBlock) api.MFunc { return api.MFunc{Params: params, Blocks: l} }
