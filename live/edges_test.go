@@ -219,26 +219,6 @@ func answers(m api.MFunc) []any {
 	return l
 }
 
-// spoil writes over all rows of answers, and behind them.
-func spoil(all []any) {
-	for _, a := range all {
-		switch l := a.(type) {
-		case [][]int:
-			for n := range l {
-				for k := range l[n] {
-					l[n][k] = -7
-				}
-				_ = append(l[n], -8)
-			}
-			clear(l)
-		case []int:
-			clear(l)
-		case []api.Range:
-			clear(l)
-		}
-	}
-}
-
 // TestKept: what is handed in stays as it was, and is not kept; answers are the caller's, share nothing, and are the same each time (R1, R3, R4).
 func TestKept(t *testing.T) {
 	for _, x := range sample.MRuns(31, 300) {
@@ -250,7 +230,7 @@ func TestKept(t *testing.T) {
 		if !reflect.DeepEqual(first, second) {
 			t.Fatalf("%v: %v, and then %v", m, first, second)
 		}
-		spoil(second)
+		sample.ScribbleRows(second)
 		sample.ScribbleCode(m)
 		if again := answers(x.M); !reflect.DeepEqual(first, again) {
 			t.Fatalf("%v: %v became %v", x.M, again, first)

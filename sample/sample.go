@@ -125,3 +125,32 @@ func ScribbleCode(m api.MFunc) {
 	}
 	clear(m.Blocks)
 }
+
+// ScribbleRows writes over all rows of answers, and behind them.
+func ScribbleRows(answers []any) {
+	for _, a := range answers {
+		switch l := a.(type) {
+		case [][]int:
+			for _, row := range l {
+				spoil(row, -7)
+			}
+			clear(l)
+		case []int:
+			spoil(l, -7)
+		case []int32:
+			spoil(l, -7)
+		case []api.Range:
+			spoil(l, api.Range{From: -7})
+		case []api.Mach:
+			spoil(l, api.Mach{Op: -7})
+		}
+	}
+}
+
+// spoil writes one thing over a row, and behind it.
+func spoil[T any](row []T, x T) {
+	for n := range row {
+		row[n] = x
+	}
+	_ = append(row, x)
+}
