@@ -46,14 +46,8 @@ func with(b api.Block, l ...api.Phi) api.Block {
 	return b
 }
 
-// args is an input of arguments, with steps enough.
-func args(l ...int32) api.Input { return api.Input{Args: l, Steps: 1000} }
-
-// alike tells whether two outcomes are the same in all, be rows without items nil or empty.
-func alike(a, b api.Outcome) bool {
-	same := func(x, y api.Event) bool { return x.Callee == y.Callee && slices.Equal(x.Args, y.Args) }
-	return a.End == b.End && a.Val == b.Val && a.Steps == b.Steps && slices.Equal(a.Mem, b.Mem) && slices.EqualFunc(a.Calls, b.Calls, same)
-}
+// Short forms for outcomes.
+var args, alike, ended = sample.Args, sample.Alike, sample.Ended
 
 // hold holds an outcome against what is written out, and against what is reckoned a second time.
 func hold(t *testing.T, name string, f api.Func, in api.Input, want api.Outcome) {
@@ -67,11 +61,6 @@ func hold(t *testing.T, name string, f api.Func, in api.Input, want api.Outcome)
 	if got, _ := reckoned(f, in); !alike(got, want) {
 		t.Errorf("%s: by the words %v, not %v", name, got, want)
 	}
-}
-
-// ended is an outcome without memory and calls.
-func ended(end int, val int32, steps int) api.Outcome {
-	return api.Outcome{End: end, Val: val, Steps: steps}
 }
 
 // how is how a run ended; Val only of traps of instructions.
@@ -551,24 +540,10 @@ func copied(f api.Func) api.Func {
 	return f
 }
 
-// spoil writes over all that an outcome has.
-func spoil(o api.Outcome) {
-	clear(o.Mem)
-	_ = append(o.Mem, 99)
-	for n := range o.Calls {
-		// What is laid behind a row must not come to lie in another one.
-		_ = append(o.Calls[n].Args, 99)
-	}
-	for n := range o.Calls {
-		clear(o.Calls[n].Args)
-	}
-	clear(o.Calls)
-}
-
 // TestKept: what is handed in stays as it was, and is not kept; what is told is the caller's, and the same each time (P4.4, R1, R3, R4).
 func TestKept(t *testing.T) {
 	for _, x := range sample.Runs(7, 3000) {
-		f, in := copied(x.F), api.Input{Args: slices.Clone(x.In.Args), Mem: slices.Clone(x.In.Mem), Answers: slices.Clone(x.In.Answers), Steps: x.In.Steps}
+		f, in := copied(x.F), sample.CopiedInput(x.In)
 		first, second := interp.Run(f, in), interp.Run(f, in)
 		if !reflect.DeepEqual(f, x.F) || !reflect.DeepEqual(in, x.In) {
 			t.Fatalf("%v, %v: changed to %v, %v", x.F, x.In, f, in)
@@ -587,13 +562,11 @@ func TestKept(t *testing.T) {
 		if !alike(first, want) {
 			t.Fatalf("%v, %v: events share rows", f, in)
 		}
-		spoil(second)
+		sample.ScribbleOutcome(second)
 		if !alike(first, want) || !reflect.DeepEqual(in, x.In) || !reflect.DeepEqual(f, x.F) {
 			t.Fatalf("%v, %v: an answer shares something", f, in)
 		}
-		clear(in.Args)
-		clear(in.Mem)
-		clear(in.Answers)
+		sample.ScribbleInput(in)
 		clear(f.Blocks)
 		if !alike(first, want) || !alike(interp.Run(x.F, x.In), want) {
 			t.Fatalf("%v, %v: something was kept", x.F, x.In)

@@ -137,16 +137,16 @@ func expected(i api.Mach, s state) (state, int32, bool) {
 	for _, r := range takes {
 		a = append(a, s.word(r))
 	}
-	x := meaning(i, a, s.mem)
-	if x.trap != 0 {
-		return s, x.trap, false
+	x := sample.Meaning(i, a, s.mem)
+	if x.Trap != 0 {
+		return s, x.Trap, false
 	}
-	if x.stores {
-		s.mem[x.at] = int32(x.store)
+	if x.Stores {
+		s.mem[x.At] = int32(x.Store)
 	}
 	for n, r := range makes {
 		if r >= 0 && r < len(s.regs) {
-			s.regs[r] = int32(x.made[n])
+			s.regs[r] = int32(x.Made[n])
 		}
 	}
 	return s, 0, true

@@ -13,8 +13,8 @@ import (
 	"jacquard/tile"
 )
 
-// alike tells whether two outcomes are the same in all, be rows without items nil or empty.
-func alike(a, b api.Outcome) bool { return interp.Same(a, b) && a.Steps == b.Steps }
+// Short forms for outcomes.
+var args, alike, ended = sample.Args, sample.Alike, sample.Ended
 
 // runs holds an outcome against what is written out, and against what is reckoned a second time.
 func runs(t *testing.T, name string, m api.MFunc, in api.Input, want api.Outcome) {
@@ -25,14 +25,6 @@ func runs(t *testing.T, name string, m api.MFunc, in api.Input, want api.Outcome
 	if got := reckoned(m, in); !alike(got, want) {
 		t.Errorf("%s: by the words %v, not %v", name, got, want)
 	}
-}
-
-// args is an input of arguments, with steps enough.
-func args(l ...int32) api.Input { return api.Input{Args: l, Steps: 1000} }
-
-// ended is an outcome without memory and calls.
-func ended(end int, val int32, steps int) api.Outcome {
-	return api.Outcome{End: end, Val: val, Steps: steps}
 }
 
 // TestSecond: code of all kinds does what the document's words say (P7.5).
@@ -215,39 +207,22 @@ func TestSteps(t *testing.T) {
 	}
 }
 
-// spoil writes over all that an outcome has.
-func spoil(o api.Outcome) {
-	clear(o.Mem)
-	for n := range o.Calls {
-		// What is laid behind a row must not come to lie in another one.
-		_ = append(o.Calls[n].Args, 99)
-		clear(o.Calls[n].Args)
-	}
-	clear(o.Calls)
-}
-
 // TestKept: what is handed in stays as it was, and is not kept; what is told is the caller's, and the same each time (P7.6, R1, R3, R4).
 func TestKept(t *testing.T) {
 	for _, x := range sample.MRuns(7, 3000) {
-		m, in := sample.CopiedCode(x.M), api.Input{Args: slices.Clone(x.In.Args), Mem: slices.Clone(x.In.Mem), Answers: slices.Clone(x.In.Answers), Steps: x.In.Steps}
+		m, in := sample.CopiedCode(x.M), sample.CopiedInput(x.In)
 		first, second := mach.Run(m, in), mach.Run(m, in)
 		want := reckoned(x.M, x.In)
 		e, at, place := mach.Func(m)
 		if !reflect.DeepEqual(m, sample.CopiedCode(x.M)) || !reflect.DeepEqual(in, x.In) || e != api.OK || at != 0 || place != 0 {
 			t.Fatalf("%v, %v: changed to %v, %v", x.M, x.In, m, in)
 		}
-		spoil(second)
+		sample.ScribbleOutcome(second)
 		if !alike(first, want) || !reflect.DeepEqual(in, x.In) || !reflect.DeepEqual(m, sample.CopiedCode(x.M)) {
 			t.Fatalf("%v, %v: an answer shares something", m, in)
 		}
-		clear(in.Args)
-		clear(in.Mem)
-		clear(in.Answers)
-		for _, b := range m.Blocks {
-			clear(b.Phis)
-			clear(b.Ins)
-			clear(b.End.To)
-		}
+		sample.ScribbleInput(in)
+		sample.ScribbleCode(m)
 		if !alike(first, want) || !alike(mach.Run(x.M, x.In), want) {
 			t.Fatalf("%v, %v: something was kept", x.M, x.In)
 		}

@@ -19,14 +19,8 @@ var far = []int{math.MinInt, -1 << 32, -17, -2, -1, 16 + api.MaxSlots, 1 << 32, 
 // mov is a copy of a register.
 func mov(d, a int) api.Mach { return api.Mach{Op: api.MMov, D: d, A: a} }
 
-// swap is two registers that change places.
-func swap(a, b int) api.Mach { return api.Mach{Op: api.MSwap, A: a, B: b} }
-
-// sld is a register out of a slot.
-func sld(d int, slot int32) api.Mach { return api.Mach{Op: api.MSld, D: d, Imm: slot} }
-
-// sst is a register into a slot.
-func sst(a int, slot int32) api.Mach { return api.Mach{Op: api.MSst, A: a, Imm: slot} }
+// Short forms for what is written out.
+var swap, sld, sst = sample.MSwap, sample.MSld, sample.MSst
 
 // pairs are moves: each a place, and where it takes from.
 func pairs(l ...int) []api.Move {

@@ -94,3 +94,26 @@ func With(b api.MBlock, l ...api.Phi) api.MBlock {
 
 // MFunc is machine code of blocks.
 func MFunc(params int, l ...api.MBlock) api.MFunc { return api.MFunc{Params: params, Blocks: l} }
+
+// MSwap is two registers that change places.
+func MSwap(a, b int) api.Mach { return api.Mach{Op: api.MSwap, A: a, B: b} }
+
+// MSld is a register out of a slot.
+func MSld(d int, slot int32) api.Mach { return api.Mach{Op: api.MSld, D: d, Imm: slot} }
+
+// MSst is a register into a slot.
+func MSst(a int, slot int32) api.Mach { return api.Mach{Op: api.MSst, A: a, Imm: slot} }
+
+// PBlock is a block of a program, whose instructions stand for those of the same numbers.
+func PBlock(e api.End, l ...api.Mach) api.PBlock {
+	b := api.PBlock{End: e}
+	for n, i := range l {
+		b.Ins = append(b.Ins, api.Placed{I: i, From: n})
+	}
+	return b
+}
+
+// PFunc is a program of blocks.
+func PFunc(params, k, slots int, l ...api.PBlock) api.PFunc {
+	return api.PFunc{Params: params, K: k, Slots: slots, Blocks: l}
+}
