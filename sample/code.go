@@ -33,8 +33,9 @@ func MWords(next func(int) int, below int) []int32 {
 
 // grower makes machine code that may be.
 type grower struct {
-	next func(int) int
-	m    api.MFunc
+	next  func(int) int
+	width int // how many registers it has to do with, mostly
+	m     api.MFunc
 }
 
 // register is one of a few, so that code has much to do with itself.
@@ -42,16 +43,19 @@ func (g *grower) register() int {
 	if g.next(20) == 0 {
 		return One(g.next, 4096, api.MaxValues-1)
 	}
-	return g.next(9)
+	return g.next(g.width)
 }
 
 // MCode is machine code that may be, of at most so many blocks.
-func MCode(next func(int) int, blocks int) api.MFunc {
-	g := grower{next: next, m: api.MFunc{Params: next(5), Blocks: make([]api.MBlock, 1+next(blocks))}}
+func MCode(next func(int) int, blocks int) api.MFunc { return MWide(next, blocks, 9) }
+
+// MWide is such code that has to do with so many registers.
+func MWide(next func(int) int, blocks, width int) api.MFunc {
+	g := grower{next: next, width: width, m: api.MFunc{Params: next(5), Blocks: make([]api.MBlock, 1+next(blocks))}}
 	edges := g.ways()
 	// Words to begin with: addresses, and what can be divided by.
 	for range 3 {
-		g.lay(0, api.Mach{Op: api.MLi, D: next(9), Imm: int32(next(6))})
+		g.lay(0, api.Mach{Op: api.MLi, D: next(width), Imm: int32(next(6))})
 	}
 	preds := graph.Preds(edges)
 	for b := range g.m.Blocks {
@@ -97,14 +101,14 @@ func (g *grower) ways() [][]int {
 
 // phis gives a block phis, one operand for each block that control comes from.
 func (g *grower) phis(b int, preds []int) {
-	to := g.next(9)
+	to := g.next(g.width)
 	for range g.next(4) * min(b, 1) {
 		p := api.Phi{Dst: to}
 		for _, from := range preds {
 			p.In = append(p.In, api.In{From: from, Val: g.register()})
 		}
 		g.m.Blocks[b].Phis = append(g.m.Blocks[b].Phis, p)
-		to = (to + 1) % 9
+		to = (to + 1) % g.width
 	}
 }
 
@@ -134,7 +138,7 @@ func (g *grower) instruction() api.Mach {
 		i.Imm = One[int32](g.next, 0, 0, 1, 2, 4, 255)
 	case api.MMulw:
 		if i.E == i.D {
-			i.E = (i.D + 1) % 9
+			i.E = (i.D + 1) % g.width
 		}
 	}
 	return i
